@@ -308,21 +308,41 @@ func TestFirstCall(t *testing.T) {
 	}
 }
 
+// P4.1: Sum, Seal and Open go without the table; the first Next fills it, with what each byte leaves behind.
+func TestTable(t *testing.T) {
+	forget()
+	Sum([]byte("123456789"))
+	Open(Seal([]byte("123456789")))
+	if table != [256]uint32{} {
+		t.Error("Sum, Seal or Open filled the table")
+	}
+	for range 2 {
+		Next(0, 0)
+		if crc32.Table(table) != *crc32.IEEETable {
+			t.Errorf("the table behind Next: %#x", table)
+		}
+	}
+}
+
 // P4.1: many first calls at the same time tell what one alone tells.
 func TestFirstCallsAtTheSameTime(t *testing.T) {
 	text := []byte("123456789")
 	seal := sealed(text)
-	for range 50 {
+	for range 200 {
 		forget()
 		var all sync.WaitGroup
+		start := make(chan struct{})
 		for i := range 16 {
 			all.Go(func() {
+				<-start
+				next := Next(uint32(i), '9')
 				got, ok := Open(seal)
-				if Sum(text) != 0xcbf43926 || Next(uint32(i), '9') != crc32.Update(uint32(i), crc32.IEEETable, []byte("9")) || !bytes.Equal(Seal(text), seal) || string(got) != "123456789" || !ok {
+				if next != crc32.Update(uint32(i), crc32.IEEETable, []byte("9")) || Sum(text) != 0xcbf43926 || !bytes.Equal(Seal(text), seal) || string(got) != "123456789" || !ok {
 					t.Error("a call beside others tells something else")
 				}
 			})
 		}
+		close(start)
 		all.Wait()
 	}
 }
